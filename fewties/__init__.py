@@ -1,0 +1,1 @@
+"""Fewties: a few ties put in so that nothing is far."""

@@ -1,0 +1,132 @@
+"""What the tests share: webs of many kinds, and slow plain ways to the same answers."""
+
+import itertools
+import random
+
+
+def line(n):
+    return (n, [(a, a + 1) for a in range(n - 1)])
+
+
+def ring(n):
+    return (n, sorted([(a, a + 1) for a in range(n - 1)] + [(0, n - 1)]))
+
+
+def star(n):
+    return (n, [(0, b) for b in range(1, n)])
+
+
+def full(n):
+    return (n, list(itertools.combinations(range(n), 2)))
+
+
+def all_webs(n):
+    """Every web of n places."""
+    pairs = list(itertools.combinations(range(n), 2))
+    return [(n, [pair for at, pair in enumerate(pairs) if bits >> at & 1]) for bits in range(2 ** len(pairs))]
+
+
+def small_webs():
+    return [web for n in range(1, 6) for web in all_webs(n)]
+
+
+def made_webs():
+    """Webs of up to 60 places with few and many ties, the same at every run; some are not joined."""
+    chance = random.Random(20)
+    webs = []
+    for n in list(range(6, 21)) + [30, 45, 59, 60]:
+        for share in (0, 1, 2, 6):
+            webs.append((n, sorted(made_ties(chance, n, share))))
+    return webs
+
+
+def made_ties(chance, n, share):
+    names = list(range(n))
+    chance.shuffle(names)
+    ties = set()
+    for at in range(1, n):
+        # Leaving out a tie of the tree now and then makes webs that are not joined.
+        if chance.randrange(3 * n) == 0:
+            continue
+        ties.add(tuple(sorted((names[at], names[chance.randrange(max(0, at - 4), at)]))))
+    for again in range(share * n // 4):
+        ties.add(tuple(sorted(chance.sample(range(n), 2))))
+    return ties
+
+
+def plain_webs():
+    """Lines, rings, stars and full webs, the least and the greatest among them."""
+    webs = [line(n) for n in (1, 2, 3, 8, 59, 60)]
+    webs += [ring(n) for n in (3, 4, 7, 8, 59, 60)]
+    webs += [star(n) for n in (2, 5, 60)]
+    webs += [full(n) for n in (2, 5, 20, 60)]
+    webs += [(n, []) for n in (2, 3, 60)]
+    return webs
+
+
+def many_webs():
+    return small_webs() + made_webs() + plain_webs()
+
+
+def far_table(web):
+    """How far each two places are, by letting ways through each place in turn."""
+    n, ties = web
+    much = n + 1
+    far = [[0 if a == b else much for b in range(n)] for a in range(n)]
+    for a, b in ties:
+        far[a][b] = far[b][a] = 1
+    for c in range(n):
+        for a in range(n):
+            if far[a][c] < much:
+                for b in range(n):
+                    far[a][b] = min(far[a][b], far[a][c] + far[c][b])
+    return [[None if number >= much else number for number in row] for row in far]
+
+
+def table_joined(table):
+    return all(None not in row for row in table)
+
+
+def joined_webs(webs):
+    return [web for web in webs if table_joined(far_table(web))]
+
+
+def parted_webs(webs):
+    return [web for web in webs if not table_joined(far_table(web))]
+
+
+def all_ways(web, a, b):
+    """Every way from a to b that comes to no place twice."""
+    n, ties = web
+    ways = []
+    begun = [[a]]
+    while begun:
+        way = begun.pop()
+        if way[-1] == b:
+            ways.append(way)
+            continue
+        for c in range(n):
+            if c not in way and tuple(sorted((way[-1], c))) in ties:
+                begun.append(way + [c])
+    return ways
+
+
+def nested(depth):
+    thing = []
+    for again in range(depth - 1):
+        thing = [thing]
+    return thing
+
+
+def other_things():
+    """Things of every kind that are no whole numbers, lists of webs or the like."""
+    return [
+        True, False, None, "", "0", "1", "web", "4 0-1", b"", b"\x01", [], [0], [1], [[0]], [None], (), (0,), (1,),
+        (0, 1), (0, 1, 2), ((0, 1),), {}, {0: 1}, {"n": 1}, set(), {1}, frozenset({1}), object(), int, len, range(3),
+        slice(1), 2j, nested(90), (nested(40), nested(40)), Ellipsis, NotImplemented, ValueError("1"), iter([1]),
+    ]
+
+
+def no_places(n):
+    """Things that are no place of a web of n places."""
+    return [-1, -2, -n, n, n + 1, 61, 10 ** 25, -10 ** 25] + other_things()

@@ -1,0 +1,127 @@
+"""Promise 2: nothing handed in is changed or kept, and what is told is the asker's own."""
+
+import copy
+import unittest
+
+from fewties.errors import TieError
+from fewties.farthest import far_paper, far_shows, farthest_two, middles
+from fewties.webs import all_far, how_far, is_joined, is_web, short_way
+from samples import far_table, line, many_webs, no_places, other_things, ring
+
+
+def asked(web):
+    """Every call that is asked of a web, with all that is handed in."""
+    last = web[0] - 1
+    paper = [[0 if far is None else far for far in row] for row in far_table(web)]
+    return [
+        (is_web, [web]), (how_far, [web, 0, last]), (all_far, [web, last]), (is_joined, [web]),
+        (short_way, [web, last, 0]), (farthest_two, [web]), (middles, [web]), (far_paper, [web]),
+        (far_shows, [web, last, paper]), (far_shows, [web, 0, paper]),
+    ]
+
+
+def answer(call, handed):
+    try:
+        return call(*handed)
+    except TieError as refusal:
+        return type(refusal)
+
+
+def lists_in(thing):
+    """Every list that stands somewhere in the thing."""
+    if not isinstance(thing, (list, tuple)):
+        return []
+    found = [thing] if isinstance(thing, list) else []
+    for part in thing:
+        found += lists_in(part)
+    return found
+
+
+def spoil(thing):
+    for each in lists_in(thing):
+        each.append("spoilt")
+        each[0] = "spoilt"
+
+
+SOME_WEBS = [web for web in many_webs() if web[0] != 5]
+
+
+class TestAsking(unittest.TestCase):
+    def test_what_is_handed_in_stays_as_it_is(self):
+        for web in SOME_WEBS:
+            for call, handed in asked(web):
+                before = copy.deepcopy(handed)
+                answer(call, handed)
+                self.assertEqual(handed, before, call)
+
+    def test_what_is_refused_stays_as_it_is(self):
+        for at in range(len(no_places(4))):
+            thing, before = no_places(4)[at], repr(no_places(4)[at])
+            if " at 0x" in before:
+                continue
+            for handed in ([line(4), thing, 0], [line(4), 0, thing]):
+                answer(how_far, handed)
+                answer(short_way, handed)
+            answer(all_far, [line(4), thing])
+            self.assertEqual(repr(thing), before)
+
+    def test_is_web_changes_nothing(self):
+        for thing in other_things():
+            wrapped = (4, [(0, 1), thing])
+            inner = list(wrapped[1])
+            is_web(thing)
+            is_web(wrapped)
+            self.assertEqual(wrapped[1], inner)
+
+    def test_the_same_asked_again_is_answered_the_same(self):
+        for web in SOME_WEBS:
+            for call, handed in asked(web):
+                first = copy.deepcopy(answer(call, handed))
+                self.assertEqual(answer(call, handed), first)
+                self.assertEqual(answer(call, copy.deepcopy(handed)), first)
+
+    def test_what_the_asker_changes_changes_nothing_told_later(self):
+        for web in SOME_WEBS:
+            for call, handed in asked(web):
+                told = answer(call, handed)
+                kept = copy.deepcopy(told)
+                spoil(told)
+                self.assertEqual(answer(call, handed), kept, call)
+
+    def test_no_two_lists_told_are_one(self):
+        for web in SOME_WEBS:
+            for call, handed in asked(web):
+                told = lists_in([answer(call, handed), answer(call, handed)])[1:]
+                every = told + lists_in(handed)
+                self.assertEqual(len({id(each) for each in every}), len(every), call)
+
+    def test_no_row_of_a_paper_is_another(self):
+        for web in ((1, []), line(2), ring(60)):
+            paper = far_paper(web)
+            paper[0][0] = 7
+            self.assertEqual([row[0] for row in paper[1:]], [row[0] for row in far_paper(web)[1:]])
+            self.assertEqual(len({id(row) for row in paper}), web[0])
+
+    def test_a_web_that_changes_is_asked_anew(self):
+        web = (4, [(0, 1), (1, 2)])
+        self.assertIs(is_joined(web), False)
+        self.assertIsNone(short_way(web, 0, 3))
+        web[1].append((2, 3))
+        self.assertIs(is_joined(web), True)
+        self.assertEqual(short_way(web, 0, 3), [0, 1, 2, 3])
+        self.assertEqual(farthest_two(web), (3, 0, 3))
+        web[1].insert(1, (0, 3))
+        self.assertEqual(farthest_two(web), (2, 0, 2))
+        self.assertEqual(middles(web), (2, [0, 1, 2, 3]))
+
+    def test_a_paper_that_changes_is_looked_at_anew(self):
+        paper = far_table(line(3))
+        self.assertIs(far_shows(line(3), 2, paper), True)
+        paper[0][2] = 1
+        self.assertIs(far_shows(line(3), 2, paper), False)
+        paper[0][2] = 2
+        self.assertIs(far_shows(line(3), 2, paper), True)
+
+
+if __name__ == "__main__":
+    unittest.main()
