@@ -17,13 +17,17 @@ def far_rows(web):
     return [far_from(tied, place) for place in range(len(tied))]
 
 
+def most_far(rows):
+    """Tell how far the farthest two places are, by what far_rows tells."""
+    return max([max(row) for row in rows])
+
+
 def farthest_two(web):
     """Tell how far the farthest two places are, and the first such two."""
     rows = far_rows(web)
-    wides = [max(row) for row in rows]
-    far = max(wides)
+    far = most_far(rows)
     # The first of a farthest two is always the lesser: the other one's row has the same number.
-    a = wides.index(far)
+    a = [max(row) for row in rows].index(far)
     return (far, a, rows[a].index(far))
 
 

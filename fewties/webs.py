@@ -1,6 +1,6 @@
 """Webs: what one is, how far its places are, and the shortest ways."""
 
-from fewties.errors import NoPlace
+from fewties.errors import NoNumber, NoPlace
 
 MOST_PLACES = 60
 
@@ -11,9 +11,20 @@ def is_whole(thing):
     return isinstance(thing, int) and not isinstance(thing, bool)
 
 
+def is_between(least, most, thing):
+    """Tell of anything whether it is a whole number from least to most."""
+    return is_whole(thing) and least <= thing <= most
+
+
+def need_number(least, most, thing):
+    """Refuse what is no whole number from least to most."""
+    if not is_between(least, most, thing):
+        raise NoNumber("this is no number that is taken here")
+
+
 def is_place(n, thing):
     """Tell of anything whether it is one of n places."""
-    return is_whole(thing) and 0 <= thing < n
+    return is_between(0, n - 1, thing)
 
 
 def is_tie(n, thing):
@@ -22,6 +33,11 @@ def is_tie(n, thing):
         return False
     a, b = thing
     return is_place(n, a) and is_place(n, b) and a < b
+
+
+def are_ties(n, thing):
+    """Tell of anything whether it is a list of ties of n places, in any order."""
+    return isinstance(thing, list) and all([is_tie(n, tie) for tie in thing])
 
 
 def is_rising(things):
@@ -34,12 +50,8 @@ def is_web(thing):
     if not isinstance(thing, tuple) or len(thing) != 2:
         return False
     n, ties = thing
-    if not is_whole(n) or not 1 <= n <= MOST_PLACES:
-        return False
-    if not isinstance(ties, list):
-        return False
     # The ties are compared only when all are ties: things of other kinds may not compare.
-    return all([is_tie(n, tie) for tie in ties]) and is_rising(ties)
+    return is_between(1, MOST_PLACES, n) and are_ties(n, ties) and is_rising(ties)
 
 
 def tied_places(web):

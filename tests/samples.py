@@ -95,6 +95,33 @@ def parted_webs(webs):
     return [web for web in webs if not table_joined(far_table(web))]
 
 
+def most_steps(web):
+    """How many steps it takes until every place has come to all places, None where some never do."""
+    n, ties = web
+    reach = [1 << a for a in range(n)]
+    steps = 0
+    while any(each != 2 ** n - 1 for each in reach):
+        wider = list(reach)
+        for a, b in ties:
+            wider[a] |= reach[b]
+            wider[b] |= reach[a]
+        if wider == reach:
+            return None
+        reach = wider
+        steps += 1
+    return steps
+
+
+def ties_left(web):
+    """Every tie that is not in the web, as tuples are."""
+    n, ties = web
+    return [pair for pair in itertools.combinations(range(n), 2) if pair not in ties]
+
+
+def put(web, ties):
+    return (web[0], sorted(web[1] + list(ties)))
+
+
 def all_ways(web, a, b):
     """Every way from a to b that comes to no place twice."""
     n, ties = web
@@ -125,6 +152,23 @@ def other_things():
         (0, 1), (0, 1, 2), ((0, 1),), {}, {0: 1}, {"n": 1}, set(), {1}, frozenset({1}), object(), int, len, range(3),
         slice(1), 2j, nested(90), (nested(40), nested(40)), Ellipsis, NotImplemented, ValueError("1"), iter([1]),
     ]
+
+
+def no_numbers(least, most):
+    """Things that are no whole number from least to most."""
+    return [least - 1, least - 2, most + 1, most + 2, -most - 1, 10 ** 25, -10 ** 25] + other_things()
+
+
+def no_ties(n):
+    """Things that are no tie of n places, n from 4 on."""
+    ties = [(0, 0), (2, 2), (n - 1, n - 1), (2, 0), (3, 1), (n - 1, 0), (0, n), (n - 1, n), (n, n + 2), (-1, 1), (-1, 0)]
+    ties += [(-3, -1), (-n, 2), (0, 10 ** 25), (-10 ** 25, 2), (False, 2), (0, True), (True, 3), (False, True)]
+    ties += [[0, 2], [1, 3], {0, 2}, {0: 2}, "02", "0-2", b"\x00\x02", (0,), (2,), (0, 2, 3), ((0, 2),), ([0], [2])]
+    for thing in other_things():
+        ties += [(0, thing), (thing, n - 1), (thing, thing)]
+        if thing != (0, 1):
+            ties.append(thing)
+    return ties
 
 
 def no_places(n):

@@ -5,19 +5,30 @@ import unittest
 
 from fewties.errors import TieError
 from fewties.farthest import far_paper, far_shows, farthest_two, middles
+from fewties.hubs import hub_ties, hubs_for
+from fewties.lines import line_best, line_far, ring_best, ring_far
+from fewties.putin import best_few, best_tie, with_ties
 from fewties.webs import all_far, how_far, is_joined, is_web, short_way
-from samples import far_table, line, many_webs, no_places, other_things, ring
+from fewties.whatever import best_stay, stay_shows
+from samples import far_table, line, many_webs, no_places, no_ties, other_things, ring, ties_left
 
 
 def asked(web):
     """Every call that is asked of a web, with all that is handed in."""
     last = web[0] - 1
     paper = [[0 if far is None else far for far in row] for row in far_table(web)]
-    return [
+    calls = [
         (is_web, [web]), (how_far, [web, 0, last]), (all_far, [web, last]), (is_joined, [web]),
         (short_way, [web, last, 0]), (farthest_two, [web]), (middles, [web]), (far_paper, [web]),
-        (far_shows, [web, last, paper]), (far_shows, [web, 0, paper]),
+        (far_shows, [web, last, paper]), (far_shows, [web, 0, paper]), (with_ties, [web, []]),
+        (with_ties, [web, ties_left(web)[1:9][::-1]]), (with_ties, [web, [(last, 0)]]),
+        (stay_shows, [web, 0, (0, [0, last])]), (stay_shows, [web, 1, (2, [last, 0])]), (best_stay, [web, 0]),
+        (best_stay, [web, 1]), (hubs_for, [web, 0]), (hubs_for, [web, 3]), (hub_ties, [web, 0]), (hub_ties, [web, 3]),
+        (best_few, [web, 1]), (line_far, [web[0], None]), (line_far, [web[0], (0, last)]),
+        (ring_far, [web[0], (0, 2)]), (line_best, [web[0]]), (ring_best, [web[0]]),
     ]
+    # Of greater webs nothing is promised of the best tie.
+    return calls + [(best_tie, [web])] if web[0] <= 22 else calls
 
 
 def answer(call, handed):
@@ -63,7 +74,22 @@ class TestAsking(unittest.TestCase):
                 answer(how_far, handed)
                 answer(short_way, handed)
             answer(all_far, [line(4), thing])
+            for call in (best_few, best_stay, hubs_for, hub_ties):
+                answer(call, [line(4), thing])
             self.assertEqual(repr(thing), before)
+
+    def test_ties_that_are_refused_stay_as_they_are(self):
+        for at in range(len(no_ties(4))):
+            thing, before = no_ties(4)[at], repr(no_ties(4)[at])
+            if " at 0x" in before:
+                continue
+            ties, web = [(0, 3), thing, (0, 2)], line(4)
+            answer(with_ties, [web, ties])
+            answer(with_ties, [web, thing])
+            answer(line_far, [4, thing])
+            answer(ring_far, [4, thing])
+            self.assertEqual((repr(thing), len(ties), ties[0], ties[2]), (before, 3, (0, 3), (0, 2)))
+            self.assertEqual(web, line(4))
 
     def test_is_web_changes_nothing(self):
         for thing in other_things():
@@ -113,6 +139,32 @@ class TestAsking(unittest.TestCase):
         web[1].insert(1, (0, 3))
         self.assertEqual(farthest_two(web), (2, 0, 2))
         self.assertEqual(middles(web), (2, [0, 1, 2, 3]))
+
+    def test_a_web_with_ties_put_in_hangs_on_nothing_handed_in(self):
+        web, ties = line(4), [(1, 3), (0, 2)]
+        told = with_ties(web, ties)
+        web[1].clear()
+        ties.clear()
+        self.assertEqual(told, (4, [(0, 1), (0, 2), (1, 2), (1, 3), (2, 3)]))
+        web = line(4)
+        with_ties(web, [])[1].clear()
+        self.assertEqual(web, line(4))
+
+    def test_a_web_that_changes_is_bettered_anew(self):
+        web = line(4)
+        self.assertEqual((best_tie(web), best_few(web, 3)), ((2, (0, 2)), (1, [(0, 2), (0, 3), (1, 3)])))
+        self.assertEqual((best_stay(web, 0), hubs_for(web, 1)), ((1, [0, 3]), (1, [0, 3])))
+        web[1].insert(1, (0, 3))
+        self.assertEqual((best_tie(web), best_few(web, 3)), ((2, (0, 2)), (1, [(0, 2), (1, 3)])))
+        self.assertEqual((best_stay(web, 0), hubs_for(web, 1)), ((0, [0, 1]), (1, [0, 2])))
+
+    def test_a_paper_for_ties_that_changes_is_looked_at_anew(self):
+        paper = (1, [0, 3])
+        self.assertIs(stay_shows(line(4), 0, paper), True)
+        paper[1][0] = 1
+        self.assertIs(stay_shows(line(4), 0, paper), False)
+        paper[1][0] = 0
+        self.assertIs(stay_shows(line(4), 0, paper), True)
 
     def test_a_paper_that_changes_is_looked_at_anew(self):
         paper = far_table(line(3))
