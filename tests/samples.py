@@ -68,6 +68,34 @@ def many_webs():
     return small_webs() + made_webs() + plain_webs()
 
 
+def all_trees(n):
+    """Every tree of n places: from each place but 0 a tie to any other, kept where all come to 0."""
+    trees = set()
+    for others in itertools.product(range(n), repeat=n - 1):
+        ties = tuple(sorted({tuple(sorted((a + 1, b))) for a, b in enumerate(others)}))
+        if most_steps((n, ties)) is not None and all(a < b for a, b in ties) and len(ties) == n - 1:
+            trees.add(ties)
+    return [(n, list(ties)) for ties in sorted(trees)]
+
+
+def made_trees():
+    """Trees of up to 60 places, long and short ones, the same at every run."""
+    chance = random.Random(7)
+    trees = []
+    for n in list(range(6, 21)) + [30, 45, 59, 60]:
+        for reach in (1, 2, 4, n):
+            names = list(range(n))
+            chance.shuffle(names)
+            ties = [(names[at], names[chance.randrange(max(0, at - reach), at)]) for at in range(1, n)]
+            trees.append((n, sorted(tuple(sorted(tie)) for tie in ties)))
+    return trees
+
+
+def many_trees():
+    trees = [tree for n in range(1, 6) for tree in all_trees(n)]
+    return trees + made_trees() + [line(60), line(59), star(60), star(6)]
+
+
 def far_table(web):
     """How far each two places are, by letting ways through each place in turn."""
     n, ties = web
@@ -169,6 +197,23 @@ def no_ties(n):
         if thing != (0, 1):
             ties.append(thing)
     return ties
+
+
+def no_texts():
+    """Things that write no web."""
+    texts = ["", " ", "  ", "\n", "\t", "-", "a", "web", "none", "4a", "a4", "x 0-1", "4,0-1", "4;0-1", "4\t0-1"]
+    texts += [" 4", "4 ", " 4 0-1", "4 0-1 ", "4  0-1", "4 0-1  1-2", "4\n", "\n4", "4 0-1\n", "4\n0-1", "4 0-1\t"]
+    texts += ["4\r\n", "4 0-1\r", "\t4", "4 \n0-1", "4 0-1 \n"]
+    texts += ["0", "61", "62", "99", "100", "600", "0 0-1", "61 0-1", "1" * 30, "9" * 400]
+    texts += ["00", "01", "04", "004", "04 0-1", "4 00-1", "4 0-01", "4 00-01", "12 01-10", "12 0-1 1-02", "060"]
+    texts += ["+4", "-4", "--4", "4.", "4.0", "4e0", "0x4", "4_0", "1_2", "4 +0-1", "4 0-+1", "4 -0-1", "4 -1-2"]
+    texts += ["4 0--1", "4 0-1-", "4 -0-1-", "4 0-1-2", "4 0", "4 0-", "4 -1", "4 -", "4 01", "4 0 1", "4 0=1", "4 0:1"]
+    texts += ["4 0-1 0-1", "4 1-2 0-1", "4 0-2 0-1", "4 0-1 1-2 0-3", "4 0-1 2-3 2-3", "12 0-10 0-9", "12 10-11 2-3"]
+    texts += ["4 1-0", "4 0-1 2-1", "4 0-0", "4 3-3", "1 0-0", "1 0-1", "4 0-4", "4 3-4", "4 4-5", "60 0-60", "4 0-10"]
+    texts += ["4 0-1,1-2", "4 (0-1)", "(4, [(0, 1)])", "4 0-a", "4 a-1", "4 0-1 x", "4 0-1 ok", "4 0 - 1", "4 0- 1"]
+    texts += ["4 0 -1", "4 0-1 4", "4 4", "~", "4~", "4 0~1", "/", ":", "4 0-/", "4 0-:", "4 0-1!"]
+    # One of the other things is a text that writes a web.
+    return texts + [thing for thing in other_things() if not (isinstance(thing, str) and thing in ("1", "4 0-1"))]
 
 
 def no_places(n):

@@ -3,14 +3,34 @@
 import copy
 import unittest
 
+from fewties.desk import Desk
 from fewties.errors import TieError
 from fewties.farthest import far_paper, far_shows, farthest_two, middles
+from fewties.growing import Grower
 from fewties.hubs import hub_ties, hubs_for
 from fewties.lines import line_best, line_far, ring_best, ring_far
 from fewties.putin import best_few, best_tie, with_ties
+from fewties.texts import read_web, show_web
+from fewties.trees import far_ends, far_way, is_tree, parting_tie
 from fewties.webs import all_far, how_far, is_joined, is_web, short_way
 from fewties.whatever import best_stay, stay_shows
-from samples import far_table, line, many_webs, no_places, no_ties, other_things, ring, ties_left
+from samples import far_table, line, made_trees, many_webs, no_places, no_ties, other_things, ring, ties_left
+
+
+def told_by_grower(web):
+    """What a Grower begun with the web tells, behind each of a few steps."""
+    grower, last = Grower(web), web[0] - 1
+    told = []
+    for call, handed in ((grower.put_place, [last]), (grower.put_tie, [0, web[0]]), (grower.put_tie, [last, 0])):
+        told += [grower.web(), answer(call, handed), answer(grower.farthest, []), grower.far(0, last), grower.web()]
+    return told
+
+
+def told_by_desk(web):
+    """What a Desk with the web tells, and the names by which webs stand."""
+    desk, last = Desk(), web[0] - 1
+    rows = ["web a " + show_web(web), f"far a 0 {last}", "farthest a", "middles a", "hubs a 3", "show a", f"tie a {last} 0"]
+    return [[answer(desk.say, [row]), desk.names()] for row in rows + ["show a", "drop a", "show a"]]
 
 
 def asked(web):
@@ -25,7 +45,9 @@ def asked(web):
         (stay_shows, [web, 0, (0, [0, last])]), (stay_shows, [web, 1, (2, [last, 0])]), (best_stay, [web, 0]),
         (best_stay, [web, 1]), (hubs_for, [web, 0]), (hubs_for, [web, 3]), (hub_ties, [web, 0]), (hub_ties, [web, 3]),
         (best_few, [web, 1]), (line_far, [web[0], None]), (line_far, [web[0], (0, last)]),
-        (ring_far, [web[0], (0, 2)]), (line_best, [web[0]]), (ring_best, [web[0]]),
+        (ring_far, [web[0], (0, 2)]), (line_best, [web[0]]), (ring_best, [web[0]]), (is_tree, [web]), (far_way, [web]),
+        (far_ends, [web]), (parting_tie, [web]), (show_web, [web]), (read_web, [show_web(web)]),
+        (told_by_grower, [web]), (told_by_desk, [web]),
     ]
     # Of greater webs nothing is promised of the best tie.
     return calls + [(best_tie, [web])] if web[0] <= 22 else calls
@@ -54,7 +76,7 @@ def spoil(thing):
         each[0] = "spoilt"
 
 
-SOME_WEBS = [web for web in many_webs() if web[0] != 5]
+SOME_WEBS = [web for web in many_webs() if web[0] != 5] + made_trees()[::5]
 
 
 class TestAsking(unittest.TestCase):
@@ -157,6 +179,16 @@ class TestAsking(unittest.TestCase):
         web[1].insert(1, (0, 3))
         self.assertEqual((best_tie(web), best_few(web, 3)), ((2, (0, 2)), (1, [(0, 2), (1, 3)])))
         self.assertEqual((best_stay(web, 0), hubs_for(web, 1)), ((0, [0, 1]), (1, [0, 2])))
+
+    def test_a_tree_that_changes_is_looked_at_anew(self):
+        tree = line(4)
+        self.assertEqual((is_tree(tree), far_way(tree), far_ends(tree)), (True, [0, 1, 2, 3], [0, 3]))
+        self.assertEqual((parting_tie(tree), show_web(tree)), ((1, (1, 2)), "4 0-1 1-2 2-3"))
+        tree[1][2] = (1, 3)
+        self.assertEqual((is_tree(tree), far_way(tree), far_ends(tree)), (True, [0, 1, 2], [0, 2, 3]))
+        self.assertEqual((parting_tie(tree), show_web(tree)), ((2, (0, 1)), "4 0-1 1-2 1-3"))
+        tree[1].pop()
+        self.assertIs(is_tree(tree), False)
 
     def test_a_paper_for_ties_that_changes_is_looked_at_anew(self):
         paper = (1, [0, 3])

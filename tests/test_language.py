@@ -162,6 +162,17 @@ class TestLanguage(unittest.TestCase):
         for path, text in TEXTS.items():
             self.assertIsNone(WORDS.search(text), path)
 
+    def test_l18_no_method_is_an_attribute(self):
+        assigned = {node.attr for path, node in nodes(ast.Attribute) if isinstance(node.ctx, ast.Store)}
+        self.assertEqual(assigned & set(own_methods()), set())
+        for path, node in nodes(ast.Attribute):
+            known = assigned | set(own_methods()) | set(METHODS) | {"__init__"}
+            self.assertIn(node.attr, known, (path, node.lineno))
+
+    def test_l3_functions_in_tables_are_named_before_they_are_called(self):
+        for path, node in nodes(ast.Call):
+            self.assertIsInstance(node.func, (ast.Name, ast.Attribute), (path, node.lineno))
+
     def test_l20_is(self):
         for path, node in nodes(ast.Compare):
             for sign, right in zip(node.ops, node.comparators):
